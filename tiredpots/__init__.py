@@ -1,0 +1,1 @@
+"""Tiredpots: comparing cloths dyed in pots that are never changed."""
