@@ -3,6 +3,9 @@
 import random
 
 from tiredpots.book import Book
+from tiredpots.forms import Form
+from tiredpots.order import Order, faults, pairs, told_there
+from tiredpots.paying import Open, Sure
 
 # Values that stand in the place of a whole number, and are none.
 NO_WHOLE = [True, False, None, "", "3", (), (3,), (3, (3,))]
@@ -69,8 +72,8 @@ def full_book():
     return book
 
 
-def random_book(seed):
-    """A book that depends on the seed alone."""
+def random_book(seed, most=14):
+    """A book of at most so many dips that depends on the seed alone."""
     chance = random.Random(seed)
     book = Book()
     kinds = ["plum", "quince", "rose", "sage"][:chance.randint(1, 4)]
@@ -84,7 +87,7 @@ def random_book(seed):
         book.add_pot(pot)
     for cloth in cloths:
         book.add_cloth(cloth, chance.choice(kinds))
-    for _ in range(chance.randint(0, 14)):
+    for _ in range(chance.randint(0, most)):
         book.dip(chance.choice(cloths), chance.choice(pots))
     amounts = book.amounts()
     for _ in range(chance.randint(0, 6) if amounts else 0):
@@ -93,3 +96,85 @@ def random_book(seed):
         else:
             book.tell(chance.choice(amounts), chance.choice(amounts))
     return book
+
+
+def random_form(chance, amounts, size=5):
+    """A form with some of these amounts."""
+    return Form([(amount, chance.randint(-size, size)) for amount in amounts if chance.random() < 0.6])
+
+
+def random_sure_form(chance, book, size=5):
+    """A form that is sure, made of payments turned round and of numbers above 0."""
+    order, amounts = Order(book), book.amounts()
+    form = Form([(amount, chance.randint(0, size)) for amount in amounts if chance.random() < 0.2])
+    for more in amounts:
+        for less in amounts:
+            if (more, less) in order and chance.random() < 0.3:
+                form += chance.randint(0, size) * Form([(more, 1), (less, -1)])
+    return form
+
+
+def closed_sets(book):
+    """All sets of amounts that are closed upward. The book must be small."""
+    comparisons = pairs(book)
+    found = {frozenset()}
+    for amount in book.amounts():
+        least, size = {amount}, 0
+        while size < len(least):
+            size = len(least)
+            least |= {more for more, less in comparisons if less in least}
+        found |= {frozenset(least | other) for other in found}
+    return found
+
+
+def value_in(form, some):
+    """The value of the form in the world with 1 for these amounts and 0 for all others."""
+    return sum(number for amount, number in form if amount in some)
+
+
+def sure_by_sets(book, form, strict=False, sets=None):
+    """Whether a form is sure, or strictly sure: each world is a sum of sets that are closed upward."""
+    sets = closed_sets(book) if sets is None else sets
+    there = set(told_there(book))
+    return (all(value_in(form, some) >= 0 for some in sets)
+            and not (strict and any(value_in(form, some) <= 0 for some in sets if there <= some)))
+
+
+def kept_after(case, book, form, payments):
+    """Checks the payments by the words of point 13, and returns what each amount keeps."""
+    order = Order(book)
+    case.assertIs(list, type(payments))
+    kept = {amount: form[amount] for amount in book.amounts()}
+    for payment in payments:
+        case.assertIs(tuple, type(payment))
+        more, less, number = payment
+        case.assertNotEqual(more, less)
+        case.assertIn((more, less), order)
+        case.assertIs(int, type(number))
+        case.assertGreaterEqual(number, 1)
+        kept[more] -= number
+        kept[less] += number
+    case.assertTrue(all(number >= 0 for number in kept.values()), (form, payments))
+    return kept
+
+
+def check_answer(case, book, form, answer, strict=False):
+    """Checks an answer by the words of the document, and returns whether it is yes."""
+    case.assertEqual(form, answer.form)
+    case.assertIsNot(form, answer.form)
+    if type(answer) is Sure:
+        case.assertIs(True, answer.holds())
+        kept = kept_after(case, book, form, answer.payments)
+        if strict:
+            case.assertIn(answer.spare, Order(book).there())
+            case.assertGreaterEqual(kept[answer.spare], 1)
+        else:
+            case.assertIsNone(answer.spare)
+        return True
+    case.assertIs(Open, type(answer))
+    case.assertIs(False, answer.holds())
+    case.assertEqual(book.amounts(), sorted(answer.world, key=book.amounts().index))
+    case.assertTrue(all(type(number) is int for number in answer.world.values()))
+    case.assertEqual([], faults(book, answer.world))
+    case.assertLessEqual(form(answer.world), 0 if strict else -1)
+    return False

@@ -3,7 +3,7 @@
 import inspect
 import unittest
 
-from tiredpots import book, forms, order
+from tiredpots import book, forms, notation, order, paying, rows, shades
 from tiredpots.book import Book
 from tiredpots.forms import Form
 from tiredpots.order import Order
@@ -31,6 +31,9 @@ METHODS = {
         "__init__": "(self, book)", "__contains__": None, "chain": "(self, more, less)",
         "above": "(self, amounts)", "there": "(self)",
     },
+    paying.Answer: {"holds": "(self)"},
+    paying.Sure: {"holds": "(self)"},
+    paying.Open: {"holds": "(self)"},
 }
 
 FUNCTIONS = {
@@ -38,6 +41,25 @@ FUNCTIONS = {
     order.pairs: ("tiredpots.order", "(book)"),
     order.told_there: ("tiredpots.order", "(book)"),
     order.faults: ("tiredpots.order", "(book, amounts)"),
+    paying.ask: ("tiredpots.paying", "(book, form, *, strict=False)"),
+    shades.compare: ("tiredpots.shades", "(book, first, second, *, at=None)"),
+    shades.table: ("tiredpots.shades", "(book, *, at=None)"),
+    shades.pot_taint: ("tiredpots.shades", "(book, pot, *, at=None)"),
+    shades.cloth_taint: ("tiredpots.shades", "(book, cloth, *, at=None)"),
+    shades.sure_ratio: ("tiredpots.shades", "(book, first, second)"),
+    shades.foresee: ("tiredpots.shades", "(book, dips, first, second)"),
+    rows.every_row: ("tiredpots.rows", "(work)"),
+    rows.rank_row: ("tiredpots.rows", "(work, wishes)"),
+    rows.dark_row: ("tiredpots.rows", "(book, work, wishes)"),
+    rows.clean_row: ("tiredpots.rows", "(book, work, guarded)"),
+    notation.write_book: ("tiredpots.notation", "(book)"),
+    notation.read_book: ("tiredpots.notation", "(text)"),
+}
+
+CLASSES = {
+    "tiredpots.forms": [forms.Form], "tiredpots.book": [book.Book], "tiredpots.order": [order.Order],
+    "tiredpots.paying": [paying.Answer, paying.Sure, paying.Open], "tiredpots.shades": [shades.Ratio],
+    "tiredpots.rows": [rows.Plan, rows.Barred, rows.Ring],
 }
 
 
@@ -54,9 +76,9 @@ class InterfaceTests(unittest.TestCase):
             self.assertEqual((place, arguments), (function.__module__, str(inspect.signature(function))))
 
     def test_classes_stand_in_their_file(self):
-        self.assertEqual("tiredpots.forms", forms.Form.__module__)
-        self.assertEqual("tiredpots.book", book.Book.__module__)
-        self.assertEqual("tiredpots.order", order.Order.__module__)
+        for place, classes in CLASSES.items():
+            for owner in classes:
+                self.assertEqual(place, owner.__module__)
 
     def test_bound_is_a_property_and_take_and_leave_are_static(self):
         self.assertIsInstance(Book.__dict__["bound"], property)

@@ -46,3 +46,9 @@ def check_between(value, least, most):
     """Refuses what is not a whole number from `least` to `most`."""
     if not is_whole(value) or not least <= value <= most:
         raise BadNumber(value)
+
+
+def check_moment(value, most):
+    """Refuses what is neither None nor a whole number from 0 to `most`."""
+    if value is not None:
+        check_between(value, 0, most)

@@ -1,6 +1,6 @@
 """The book: kinds, thirsts, pots, cloths, dips and facts."""
 
-from tiredpots.amounts import check_between, is_amount
+from tiredpots.amounts import check_between, check_moment, is_amount
 from tiredpots.chains import steps_of, walk
 from tiredpots.errors import BadAmount, BadHold, BadName, Full, Known, Unknown
 from tiredpots.forms import Form
@@ -159,7 +159,7 @@ class Book:
         """Tells whether the first kind is at least as thirsty as the second one."""
         _check_known(first, self._kinds)
         _check_known(second, self._kinds)
-        return second in walk(first, steps_of(self._thirsts))
+        return second in walk([first], steps_of(self._thirsts))
 
     def previous(self, number):
         """Returns the number of the last earlier dip of the same cloth, or None."""
@@ -238,10 +238,8 @@ class Book:
 
     def _moment(self, at):
         """Returns how many dips there are at a moment."""
-        if at is None:
-            return len(self._dips)
-        check_between(at, 0, len(self._dips))
-        return at
+        check_moment(at, len(self._dips))
+        return len(self._dips) if at is None else at
 
     def _foreign_leaves(self, number):
         """Returns the dips of other cloths that left colour in the pot of a dip before it."""

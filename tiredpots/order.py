@@ -1,7 +1,7 @@
 """The comparisons of a book, its worlds, and the order of its amounts."""
 
 from tiredpots.amounts import is_amount
-from tiredpots.chains import steps_of, walk
+from tiredpots.chains import path_to, steps_of, walk
 from tiredpots.errors import BadAmount
 
 
@@ -57,7 +57,7 @@ class Order:
 
     def __init__(self, book):
         steps = steps_of(pairs(book))
-        self._below = {amount: walk(amount, steps) for amount in book.amounts()}
+        self._below = {amount: walk([amount], steps) for amount in book.amounts()}
         self._told = told_there(book)
 
     def __contains__(self, couple):
@@ -68,13 +68,7 @@ class Order:
         """Returns a chain of comparisons as a list of amounts, or None if there is none."""
         self._check_own(more)
         self._check_own(less)
-        before = self._below[more]
-        if less not in before:
-            return None
-        found = [less]
-        while found[-1] != more:
-            found.append(before[found[-1]])
-        return found[::-1]
+        return path_to(less, self._below[more]) if less in self._below[more] else None
 
     def above(self, amounts):
         """Returns a list of the amounts that are surely at least one of these amounts."""
