@@ -169,7 +169,8 @@ class DarkRowTests(unittest.TestCase):
     def test_rings_come_ahead_of_the_bound(self):
         book = example_book()
         work = [("shawl", ["weld"] * 30), ("ribbon", [])]
-        for wishes, ring in [([("shawl", "shawl")], ["shawl"]), ([("shawl", "ribbon"), ("ribbon", "ribbon")], ["ribbon"])]:
+        for wishes, ring in [([("shawl", "shawl")], ["shawl"]),
+                             ([("shawl", "ribbon"), ("ribbon", "ribbon")], ["ribbon"])]:
             refused(self, RingOfWishes, ring, dark_row, book, work, wishes)
         with self.assertRaises(RingOfWishes) as caught:
             dark_row(book, work, [("shawl", "ribbon"), ("ribbon", "shawl")])

@@ -37,9 +37,10 @@ REFUSED = [
 
 # Lines that have none of the forms.
 SHAPELESS = [
-    "", " ", "  ", "kind", "kind wool", "kind flax loose fast", "kinds flax loose", "Kind flax loose", "KIND flax loose",
-    "flax", "loose", "thirst", "thirst wool", "thirst wool silk silk", "pot", "pot ash elm", "pots ash", "cloth",
-    "cloth hat", "cloth hat wool silk", "dip", "dip shawl", "dip shawl weld weld", "shawl weld", "dips shawl weld",
+    "", " ", "  ", "kind", "kind wool", "kind flax loose fast", "kinds flax loose", "Kind flax loose",
+    "KIND flax loose", "flax", "loose", "thirst", "thirst wool", "thirst wool silk silk", "pot", "pot ash elm",
+    "pots ash", "cloth", "cloth hat", "cloth hat wool silk", "dip", "dip shawl", "dip shawl weld weld", "shawl weld",
+    "dips shawl weld",
     "tell", "tell take 0", "tell take 0 take", "tell take 0 take 1 take 2", "tell 0 1", "tell take take 0 1",
     "some", "some take", "some 0", "some 0 take", "some take 0 take 1", "some take 0 0", "some give 0", "some Take 0",
     "some take 00", "some take 01", "some leave 02", "some take 000", "some take 100", "some take 999", "some take -1",
@@ -242,7 +243,8 @@ class ReadTests(unittest.TestCase):
             self.check_bad(start + f"some take {number}\n", start.count("\n") + 1, BadAmount, ("take", number))
 
     def test_names_may_be_the_words_of_lines(self):
-        text = "kind kind fast\nkind take loose\nthirst take kind\npot pot\ncloth some take\ndip some pot\nsome take 0\n"
+        text = ("kind kind fast\nkind take loose\nthirst take kind\npot pot\ncloth some take\ndip some pot\n"
+                "some take 0\n")
         self.assertEqual(text, write_book(read_book(text)))
 
     def test_a_book_that_is_read_is_a_book_of_its_own(self):

@@ -110,7 +110,7 @@ class CompareTests(unittest.TestCase):
                     self.assertEqual("=", compare(book, name, name, at=at))
 
     def test_cloths_without_dips(self):
-        book = full_book().duplicate()
+        book = full_book()
         for first, second in itertools.product(ROOMS, repeat=2):
             self.assertEqual("=", compare(book, first, second, at=0))
 
