@@ -20,7 +20,8 @@ def walk(starts, steps):
     layer = list(before)
     while layer:
         found = []
-        for here in layer:
+        # A copy, since what is found here becomes the layer itself.
+        for here in list(layer):
             for there in steps.get(here, []):
                 if there not in before:
                     before[there] = here
